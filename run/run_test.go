@@ -3,10 +3,10 @@ package run_test
 import (
 	"math"
 	"reflect"
-	"runtime"
 	"slices"
 	"sync"
 	"testing"
+	"testing/synctest"
 
 	"amber/api"
 	"amber/gate"
@@ -257,13 +257,12 @@ func TestNothingIsKeptOrShared(t *testing.T) {
 	}
 }
 
-// TestKernelsApart: runs on many kernels at once tell what one alone tells, and no goroutine is left behind.
+// TestKernelsApart: runs on many kernels at once tell what one alone tells.
 func TestKernelsApart(t *testing.T) {
 	program := "sys 24\nsys 2\nsys 20\nsys 15\nsys 0\njmp -6"
 	p := slices.Repeat(picks(0, 7, 1, 3, 0, 2), 50)
 	alone := house(t, program)
 	want, _ := run.Run(alone, 1, p, []uint32{1, 2, 3})
-	before := runtime.NumGoroutine()
 	var houses [8]*gate.Kernel
 	var events [8][]api.Event
 	var all sync.WaitGroup
@@ -277,11 +276,18 @@ func TestKernelsApart(t *testing.T) {
 			t.Errorf("P12.1: kernel %d of those that ran at once went another way", i)
 		}
 	}
-	for range 10000 {
-		if runtime.NumGoroutine() <= before {
-			return
-		}
-		runtime.Gosched()
+}
+
+// TestNoGoroutineIsLeft: picks end by a yield, a wait, an exit, a fault or their last step, and their goroutine with them.
+// A bubble ends when all that were begun in it have ended, and panics where one is blocked for ever; a count of goroutines
+// would hang on the machine's load, for one that has been joined counts until its last instructions are done.
+func TestNoGoroutineIsLeft(t *testing.T) {
+	for _, program := range []string{"sys 0\njmp -2", "sys 12", "sys 1", "ld r2, r0, 600", "sys 24\nsys 24\njmp -3", "jmp -1"} {
+		synctest.Test(t, func(t *testing.T) {
+			k := house(t, program)
+			if _, code := run.Run(k, 1, picks(0, 1, 0, 7, 1, 3, 0, 2), []uint32{1}); code != api.OK {
+				t.Errorf("P12.1: a run of %q answered %v", program, code)
+			}
+		})
 	}
-	t.Errorf("P12.1: %d goroutines were left behind", runtime.NumGoroutine()-before)
 }
